@@ -8,6 +8,7 @@ import (
 
 	"pallet/api"
 	"pallet/crc"
+	"pallet/drawn"
 )
 
 // The chapter's numbers, written out: a limit that is mistaken elsewhere is noticed here.
@@ -106,16 +107,6 @@ func few() []api.Frame {
 		{Kind: 1, From: 8, Slot: 268435455, Members: 43690},
 		{Kind: 2, From: 1, Slot: maxSlots, Members: 41377},
 	}
-}
-
-// drawn is a row of numbers that look mixed, the same ones each time.
-func drawn(n int) []uint64 {
-	l, x := make([]uint64, n), uint64(7)
-	for i := range l {
-		x = x*6364136223846793005 + 1442695040888963407
-		l[i] = x >> 11
-	}
-	return l
 }
 
 // drawnFrame is a frame that may be, of five drawn numbers; of slots of few bits there are as many as of many.
@@ -373,7 +364,7 @@ func TestReadOfChangedTexts(t *testing.T) {
 
 func TestReadOfDrawn(t *testing.T) {
 	edges := []byte{161, 161, 1, 2, 0, 15, 16, 127, 128, 129, 130, 144, 143, 255, 3, 44}
-	for l := drawn(20 * 5000); len(l) > 0; l = l[20:] {
+	for l := drawn.Numbers(20*5000, 7); len(l) > 0; l = l[20:] {
 		b := []byte{161, byte(1 + l[0]%2), byte(l[1] % 16)}
 		for i := range l[2] % 12 {
 			b = append(b, edges[l[3+i]>>20%16])
@@ -404,7 +395,7 @@ func TestWrittenIsRead(t *testing.T) {
 	for m := range 65536 {
 		compareBack(t, api.Frame{Kind: 1 + m%2, From: m % 15, Slot: uint64(m), Members: uint16(m)})
 	}
-	for l := drawn(5 * 20000); len(l) > 0; l = l[5:] {
+	for l := drawn.Numbers(5*20000, 7); len(l) > 0; l = l[5:] {
 		compareWrite(t, drawnFrame(l))
 		compareBack(t, drawnFrame(l))
 	}
@@ -413,7 +404,7 @@ func TestWrittenIsRead(t *testing.T) {
 // What is read is written as it stood there: a frame has one text alone.
 func TestReadIsWritten(t *testing.T) {
 	many := 0
-	for l := drawn(20 * 5000); len(l) > 0; l = l[20:] {
+	for l := drawn.Numbers(20*5000, 7); len(l) > 0; l = l[20:] {
 		b := []byte{161, byte(l[0] % 4), byte(l[1] % 18)}
 		for i := range 3 + l[2]%5 {
 			b = append(b, byte(l[3+i]>>20))
@@ -446,7 +437,7 @@ func patterns() []uint32 {
 			l = append(l, 1<<23|1<<i|1<<k)
 		}
 	}
-	for _, x := range drawn(500) {
+	for _, x := range drawn.Numbers(500, 7) {
 		l = append(l, 1<<23|uint32(x>>20)&(1<<23-1))
 	}
 	return l

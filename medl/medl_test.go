@@ -7,6 +7,7 @@ import (
 	"testing"
 
 	"pallet/api"
+	"pallet/drawn"
 )
 
 // The chapter's numbers, written out: a limit that is mistaken elsewhere is noticed here.
@@ -111,16 +112,6 @@ func slots() []uint64 {
 		l = append(l, n, maxSlots+1-n)
 	}
 	return append(l, 1<<20-1, 1<<20, 1<<31, 1<<31+5)
-}
-
-// drawn is a row of numbers that look mixed, the same ones each time.
-func drawn(n int) []uint64 {
-	l, x := make([]uint64, n), uint64(7)
-	for i := range l {
-		x = x*6364136223846793005 + 1442695040888963407
-		l[i] = x >> 11
-	}
-	return l
 }
 
 // drawnMedl is a schedule that may be, of five drawn numbers.
@@ -280,7 +271,7 @@ func TestSlotsAtTheEdges(t *testing.T) {
 }
 
 func TestSlotsOfDrawn(t *testing.T) {
-	for l := drawn(6 * 5000); len(l) > 0; l = l[6:] {
+	for l := drawn.Numbers(6*5000, 7); len(l) > 0; l = l[6:] {
 		compareSlot(t, drawnMedl(l), l[5]%(maxSlots+100))
 	}
 }
@@ -380,7 +371,7 @@ func TestAtAtTheEdges(t *testing.T) {
 }
 
 func TestAtOfDrawn(t *testing.T) {
-	for l := drawn(6 * 5000); len(l) > 0; l = l[6:] {
+	for l := drawn.Numbers(6*5000, 7); len(l) > 0; l = l[6:] {
 		compareAt(t, drawnMedl(l), int64(l[5]))
 	}
 }
@@ -447,7 +438,7 @@ func TestOffAtTheEdges(t *testing.T) {
 }
 
 func TestOffOfDrawn(t *testing.T) {
-	for l := drawn(6 * 5000); len(l) > 0; l = l[6:] {
+	for l := drawn.Numbers(6*5000, 7); len(l) > 0; l = l[6:] {
 		m := drawnMedl(l)
 		compareOff(t, m, int64(l[5]%uint64(2*m.Slot))-m.Slot/2)
 	}

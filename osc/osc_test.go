@@ -7,6 +7,7 @@ import (
 	"testing"
 
 	"pallet/api"
+	"pallet/drawn"
 )
 
 // The chapter's numbers, written out: a limit that is mistaken elsewhere is noticed here.
@@ -98,16 +99,6 @@ func run(o api.Osc, ticks int64) (int64, api.Osc, api.Errno) {
 		return 0, api.Osc{}, api.ErrOver
 	}
 	return n.Int64(), api.Osc{Period: o.Period, Drift: o.Drift, Rem: left}, api.OK
-}
-
-// drawn is a row of numbers that look mixed, the same ones each time.
-func drawn(n int) []uint64 {
-	l, x := make([]uint64, n), uint64(6)
-	for i := range l {
-		x = x*6364136223846793005 + 1442695040888963407
-		l[i] = x >> 11
-	}
-	return l
 }
 
 // drawnOsc is an oscillator that may be, of three drawn numbers.
@@ -264,7 +255,7 @@ func TestRunOverByTheRest(t *testing.T) {
 }
 
 func TestRunOfDrawn(t *testing.T) {
-	l := drawn(4 * 20000)
+	l := drawn.Numbers(4*20000, 6)
 	for ; len(l) > 0; l = l[4:] {
 		compareRun(t, drawnOsc(l), int64(l[3]%[]uint64{5, 1 << 20, maxTicks + 1}[l[3]>>25%3]))
 	}
@@ -444,7 +435,7 @@ func TestTicksAboutWhatRunTakes(t *testing.T) {
 }
 
 func TestTicksOfDrawn(t *testing.T) {
-	l := drawn(4 * 20000)
+	l := drawn.Numbers(4*20000, 6)
 	for ; len(l) > 0; l = l[4:] {
 		compareTicks(t, drawnOsc(l), int64(l[3]<<8%[]uint64{5, 1 << 40, maxTime + 1}[l[3]>>25%3]))
 	}
@@ -511,7 +502,7 @@ func comparePair(t *testing.T, a, b api.Osc, n int64) {
 // P6.4
 
 func TestInPartsAsAtOnce(t *testing.T) {
-	l := drawn(8 * 3000)
+	l := drawn.Numbers(8*3000, 6)
 	for ; len(l) > 0; l = l[8:] {
 		o := drawnOsc(l)
 		var parts []int64
@@ -532,7 +523,7 @@ func TestInPartsAsAtOnce(t *testing.T) {
 }
 
 func TestFasterNeverTakesLonger(t *testing.T) {
-	l := drawn(4 * 3000)
+	l := drawn.Numbers(4*3000, 6)
 	for ; len(l) > 0; l = l[4:] {
 		slow := drawnOsc(l)
 		for _, d := range []int64{1, 2, 1000, 2 * maxDrift} {
