@@ -7,6 +7,7 @@ import (
 
 	"pallet/api"
 	"pallet/lex"
+	"pallet/sample"
 )
 
 // P15.3
@@ -16,15 +17,15 @@ func TestWhatIsParsedMayBe(t *testing.T) {
 	check := func(s string) {
 		l, _, e := Parse(s)
 		if !mayBe(l) || Check(l...) != api.OK || e != api.OK && len(l) != 0 {
-			t.Fatalf("%.99q is parsed as %.400s, %d", s, shown(l), e)
+			t.Fatalf("%.99q is parsed as %.400s, %d", s, sample.Shown(l), e)
 		}
 		if flat := Flat(l...); Check(flat...) != api.OK || Count(flat...) != Count(l...) {
-			t.Fatalf("%.99q: flat: %.400s", s, shown(flat))
+			t.Fatalf("%.99q: flat: %.400s", s, sample.Shown(flat))
 		}
 	}
-	eachText(7, check)
+	sample.EachText(7, check)
 	for i := range uint64(3000) {
-		check(drawnText(i))
+		check(sample.Text(i))
 	}
 	for deep := range maxDepth + 3 {
 		check(strings.Repeat("a{", deep) + strings.Repeat("}", deep))
@@ -41,7 +42,7 @@ func TestWhatIsParsedMayBe(t *testing.T) {
 
 // written is a text of statements that may be.
 func written(l []api.Stmt) string {
-	tokens := tokensOf(l)
+	tokens := sample.Tokens(l)
 	s, _ := lex.Join(tokens...)
 	return s
 }
@@ -54,15 +55,15 @@ func TestWhatMayBeIsParsed(t *testing.T) {
 		}
 		s := written(l)
 		got, at, e := Parse(s)
-		if !Same(got, l) || shown(got) != shown(l) || at != (api.Place{}) || e != api.OK {
-			t.Fatalf("%.99q: got %.400s, %v, %d", s, shown(got), at, e)
+		if !Same(got, l) || sample.Shown(got) != sample.Shown(l) || at != (api.Place{}) || e != api.OK {
+			t.Fatalf("%.99q: got %.400s, %v, %d", s, sample.Shown(got), at, e)
 		}
 	}
 	for many := range 7 {
-		eachList(many, check)
+		sample.EachList(many, check)
 	}
 	for i := range uint64(1000) {
-		check(drawnStmts(int(i%60), 1+int(i%maxDepth), i))
+		check(sample.Stmts(int(i%60), 1+int(i%maxDepth), i))
 	}
 }
 
@@ -83,7 +84,7 @@ func joined(t *testing.T, a, b string) {
 		t.Fatalf("%.99q and %.99q: got %v, %d, want %v, %d", a, b, place, got, at, e)
 	}
 	if e == api.OK && !Same(l, append(first, second...)) {
-		t.Fatalf("%.99q and %.99q: got %.400s, want %.400s and %.400s", a, b, shown(l), shown(first), shown(second))
+		t.Fatalf("%.99q and %.99q: got %.400s, want %.400s and %.400s", a, b, sample.Shown(l), sample.Shown(first), sample.Shown(second))
 	}
 }
 
@@ -97,14 +98,14 @@ func further(behind, at api.Place) api.Place {
 
 // Text by text statements are put one behind the other.
 func TestOneTextBehindAnother(t *testing.T) {
-	eachText(4, func(a string) {
+	sample.EachText(4, func(a string) {
 		if _, _, e := Parse(a); e == api.OK {
-			eachText(5, func(b string) { joined(t, a, b) })
+			sample.EachText(5, func(b string) { joined(t, a, b) })
 		}
 	})
 	for i := range uint64(3000) {
 		// A remark at the first one's end would take in the second one.
-		joined(t, drawnText(i)+"\n", drawnText(i+7777))
+		joined(t, sample.Text(i)+"\n", sample.Text(i+7777))
 	}
 }
 

@@ -6,6 +6,7 @@ import (
 	"testing"
 
 	"pallet/api"
+	"pallet/sample"
 )
 
 // P15.2
@@ -15,8 +16,8 @@ func checkParse(t *testing.T, s string) told {
 	t.Helper()
 	want := parseOf(s)
 	l, at, e := Parse(s)
-	if at != want.at || e != want.e || !slices.Equal(tokensOf(l), want.tokens) || want.e != 0 && len(l) != 0 {
-		t.Fatalf("Parse(%.99q): got %.400s, %v, %d, want %v, %d", s, shown(l), at, e, want.at, want.e)
+	if at != want.at || e != want.e || !slices.Equal(sample.Tokens(l), want.tokens) || want.e != 0 && len(l) != 0 {
+		t.Fatalf("Parse(%.99q): got %.400s, %v, %d, want %v, %d", s, sample.Shown(l), at, e, want.at, want.e)
 	}
 	return want
 }
@@ -38,8 +39,8 @@ func TestParseByHand(t *testing.T) {
 		"a{b{}c;}d{}":        {{Word: "a", Block: true, Body: []api.Stmt{{Word: "b", Block: true}, {Word: "c"}}}, {Word: "d", Block: true}},
 	} {
 		l, at, e := Parse(s)
-		if shown(l) != shown(want) || at != (api.Place{}) || e != api.OK {
-			t.Errorf("Parse(%.99q): got %.400s, %v, %d", s, shown(l), at, e)
+		if sample.Shown(l) != sample.Shown(want) || at != (api.Place{}) || e != api.OK {
+			t.Errorf("Parse(%.99q): got %.400s, %v, %d", s, sample.Shown(l), at, e)
 		}
 		checkParse(t, s)
 	}
@@ -72,29 +73,29 @@ func TestParseFaultsByHand(t *testing.T) {
 	} {
 		l, at, e := Parse(s)
 		if len(l) != 0 || at != (api.Place{Line: want.line, Col: want.col}) || e != want.e {
-			t.Errorf("Parse(%.99q): got %.400s, %v, %d, want %v", s, shown(l), at, e, want)
+			t.Errorf("Parse(%.99q): got %.400s, %v, %d, want %v", s, sample.Shown(l), at, e, want)
 		}
 		checkParse(t, s)
 	}
 }
 
 func TestParseShortTexts(t *testing.T) {
-	eachText(8, func(s string) { checkParse(t, s) })
+	sample.EachText(8, func(s string) { checkParse(t, s) })
 }
 
 // Short texts behind what is just not too deep, too long, or too much.
 func TestParseShortTextsAtTheEdges(t *testing.T) {
 	for deep := 1; deep < maxDepth+2; deep++ {
-		eachText(5, func(s string) { checkParse(t, strings.Repeat("a{", deep)+s) })
-		eachText(4, func(s string) { checkParse(t, strings.Repeat("a{b;c 5{}", deep)+s+strings.Repeat("}", deep)) })
+		sample.EachText(5, func(s string) { checkParse(t, strings.Repeat("a{", deep)+s) })
+		sample.EachText(4, func(s string) { checkParse(t, strings.Repeat("a{b;c 5{}", deep)+s+strings.Repeat("}", deep)) })
 	}
 	for nums := 6; nums < maxNums+2; nums++ {
-		eachText(5, func(s string) { checkParse(t, "a"+strings.Repeat(" 5", nums)+" "+s) })
-		eachText(4, func(s string) { checkParse(t, "a{b; a"+strings.Repeat(" 5s", nums)+" "+s+"}") })
+		sample.EachText(5, func(s string) { checkParse(t, "a"+strings.Repeat(" 5", nums)+" "+s) })
+		sample.EachText(4, func(s string) { checkParse(t, "a{b; a"+strings.Repeat(" 5s", nums)+" "+s+"}") })
 	}
 	for many := maxStmts - 3; many < maxStmts+2; many++ {
-		eachText(3, func(s string) { checkParse(t, strings.Repeat("a;", many)+s) })
-		eachText(2, func(s string) {
+		sample.EachText(3, func(s string) { checkParse(t, strings.Repeat("a;", many)+s) })
+		sample.EachText(2, func(s string) {
 			checkParse(t, "a{"+strings.Repeat("a;", many-1)+s+"}")
 			checkParse(t, strings.Repeat("a{b{}}", many/2)+strings.Repeat("a;", many%2)+s)
 		})
@@ -141,7 +142,7 @@ func TestParseLongTexts(t *testing.T) {
 func TestParseDrawnTexts(t *testing.T) {
 	met := map[api.Errno]int{}
 	for i := range uint64(20000) {
-		met[checkParse(t, drawnText(i)).e]++
+		met[checkParse(t, sample.Text(i)).e]++
 	}
 	for e, least := range map[api.Errno]int{api.OK: 5000, api.ErrForm: 500, api.ErrShort: 500, api.ErrFull: 50, api.ErrLong: 50, api.ErrOver: 50} {
 		if met[e] < least {
@@ -162,18 +163,18 @@ func TestParseEachTwoBytes(t *testing.T) {
 // What is told is the caller's own, and no part of the text.
 func TestParseTellsWhatIsNew(t *testing.T) {
 	for i := range uint64(200) {
-		s := drawnText(i)
+		s := sample.Text(i)
 		l, _, _ := Parse(s)
-		was := shown(l)
+		was := sample.Shown(l)
 		other, _, _ := Parse(s)
-		visit(other, 1, func(x api.Stmt, deep int) {
+		sample.Visit(other, 1, func(x api.Stmt, deep int) {
 			if isPieceOf(x.Word, s) {
 				t.Fatalf("%.99q stands in the text that was handed in", x.Word)
 			}
 		})
-		spoil(other)
-		if shown(l) != was {
-			t.Fatalf("%.400s became %.400s", was, shown(l))
+		sample.Spoil(other)
+		if sample.Shown(l) != was {
+			t.Fatalf("%.400s became %.400s", was, sample.Shown(l))
 		}
 		checkParse(t, s)
 	}
@@ -183,12 +184,12 @@ func TestParseTellsWhatIsNew(t *testing.T) {
 func TestParsedListsShareNothing(t *testing.T) {
 	const s = "a 1 2 3{b 4 5 6; c 7{d; e;} f;} g 8 9; h{i;}"
 	l, _, _ := Parse(s)
-	want := shown(l)
-	visit(l, 1, func(x api.Stmt, deep int) {
+	want := sample.Shown(l)
+	sample.Visit(l, 1, func(x api.Stmt, deep int) {
 		_ = append(x.Nums, api.Num{N: 99})
 		_ = append(x.Body, api.Stmt{Word: "spoilt"})
 	})
-	if got := shown(l); got != want {
+	if got := sample.Shown(l); got != want {
 		t.Errorf("%.400s became %.400s", want, got)
 	}
 }

@@ -7,6 +7,7 @@ import (
 	"testing"
 
 	"pallet/api"
+	"pallet/sample"
 )
 
 // P15.1
@@ -16,20 +17,20 @@ func checkStmts(t *testing.T, l []api.Stmt) {
 	t.Helper()
 	many, deep := sizeOf(l)
 	if got := Count(l...); got != many {
-		t.Fatalf("Count(%.99s): got %d, want %d", shown(l), got, many)
+		t.Fatalf("Count(%.99s): got %d, want %d", sample.Shown(l), got, many)
 	}
 	if got := Depth(l...); got != deep {
-		t.Fatalf("Depth(%.99s): got %d, want %d", shown(l), got, deep)
+		t.Fatalf("Depth(%.99s): got %d, want %d", sample.Shown(l), got, deep)
 	}
-	if got, want := shown(Flat(l...)), shown(flatOf(l)); got != want {
-		t.Fatalf("Flat(%.99s): got %.400s, want %.400s", shown(l), got, want)
+	if got, want := sample.Shown(Flat(l...)), sample.Shown(flatOf(l)); got != want {
+		t.Fatalf("Flat(%.99s): got %.400s, want %.400s", sample.Shown(l), got, want)
 	}
 	want := api.ErrArg
 	if mayBe(l) {
 		want = api.OK
 	}
 	if got := Check(l...); got != want {
-		t.Fatalf("Check(%.99s): got %d, want %d", shown(l), got, want)
+		t.Fatalf("Check(%.99s): got %d, want %d", sample.Shown(l), got, want)
 	}
 }
 
@@ -78,41 +79,33 @@ func TestStatementsByHand(t *testing.T) {
 
 func TestEachSmallList(t *testing.T) {
 	for many := range 7 {
-		eachList(many, func(l []api.Stmt) { checkStmts(t, l) })
+		sample.EachList(many, func(l []api.Stmt) { checkStmts(t, l) })
 	}
 }
 
 func TestDrawnStatements(t *testing.T) {
 	for i := range uint64(1000) {
-		l := drawnStmts(int(i%40), 1+int(i%8), i)
+		l := sample.Stmts(int(i%40), 1+int(i%8), i)
 		checkStmts(t, l)
-	}
-}
-
-// each hands on where each statement stands.
-func each(l []api.Stmt, hand func(x *api.Stmt)) {
-	for i := range l {
-		hand(&l[i])
-		each(l[i].Body, hand)
 	}
 }
 
 // One part that may not be spoils all, wherever it stands.
 func TestOneWrongPart(t *testing.T) {
 	for i := range uint64(200) {
-		l := drawnStmts(1+int(i%20), 1+int(i%maxDepth), i)
-		each(l, func(x *api.Stmt) {
+		l := sample.Stmts(1+int(i%20), 1+int(i%maxDepth), i)
+		sample.Each(l, func(x *api.Stmt) {
 			was := *x
 			for _, wrong := range []api.Stmt{
 				{Word: "A", Nums: was.Nums, Block: was.Block, Body: was.Body},
 				{Word: was.Word, Nums: make([]api.Num, maxNums+1), Block: was.Block, Body: was.Body},
 				{Word: was.Word, Nums: []api.Num{{N: limit}}, Block: was.Block, Body: was.Body},
 				{Word: was.Word, Nums: was.Nums, Body: []api.Stmt{{Word: "a"}}},
-				{Word: was.Word, Nums: was.Nums, Block: true, Body: nested(maxDepth, false)},
+				{Word: was.Word, Nums: was.Nums, Block: true, Body: sample.Nested(maxDepth, false)},
 			} {
 				*x = wrong
 				if e := Check(l...); e != api.ErrArg {
-					t.Fatalf("%.400s: got %d", shown(l), e)
+					t.Fatalf("%.400s: got %d", sample.Shown(l), e)
 				}
 				checkStmts(t, l)
 			}
@@ -122,13 +115,6 @@ func TestOneWrongPart(t *testing.T) {
 	}
 }
 
-// places are lists in which a statement stands somewhere, all else of which may be.
-func places(x api.Stmt) [][]api.Stmt {
-	a := api.Stmt{Word: "a"}
-	in := func(l ...api.Stmt) api.Stmt { return api.Stmt{Word: "b", Block: true, Body: l} }
-	return [][]api.Stmt{{x}, {a, x}, {x, a}, {in(x)}, {in(a), x}, {in(x), a}, {in(), in(a, in(a, x, a), a), a}, {in(in(in(in(x))))}}
-}
-
 func TestWordsOfStatements(t *testing.T) {
 	words := []string{"", "a", "z", "A", "9", "9a", "a9", "a b", " a", "a ", "a\n", "a;", "é", "a\xff", "-", "a-", "{", "a#",
 		strings.Repeat("a", 15), strings.Repeat("a", 16), strings.Repeat("a", 17), "a" + strings.Repeat("9", 15), "a" + strings.Repeat("9", 16), strings.Repeat("é", 8)}
@@ -136,10 +122,10 @@ func TestWordsOfStatements(t *testing.T) {
 		words = append(words, string(r), "a"+string(r), string([]byte{byte(r)}))
 	}
 	for _, s := range words {
-		for _, l := range places(api.Stmt{Word: s}) {
+		for _, l := range sample.Places(api.Stmt{Word: s}) {
 			checkStmts(t, l)
 		}
-		for _, l := range places(api.Stmt{Word: s, Block: true}) {
+		for _, l := range sample.Places(api.Stmt{Word: s, Block: true}) {
 			checkStmts(t, l)
 		}
 	}
@@ -152,7 +138,7 @@ func TestNumbersOfStatements(t *testing.T) {
 				for i := range many {
 					nums := make([]api.Num, many)
 					nums[i] = api.Num{N: n, Time: isTime}
-					for _, l := range places(api.Stmt{Word: "a", Nums: nums}) {
+					for _, l := range sample.Places(api.Stmt{Word: "a", Nums: nums}) {
 						checkStmts(t, l)
 					}
 				}
@@ -165,7 +151,7 @@ func TestNumbersOfStatements(t *testing.T) {
 func TestBodiesOfStatements(t *testing.T) {
 	for _, block := range []bool{false, true} {
 		for _, body := range [][]api.Stmt{nil, {}, {{Word: "c"}}, {{Word: "c", Block: true}}, {{}}} {
-			for _, l := range places(api.Stmt{Word: "a", Block: block, Body: body}) {
+			for _, l := range sample.Places(api.Stmt{Word: "a", Block: block, Body: body}) {
 				checkStmts(t, l)
 			}
 		}
@@ -175,28 +161,19 @@ func TestBodiesOfStatements(t *testing.T) {
 	}
 }
 
-// nested are statements, each in the one ahead of it; the last one has a block, or has not.
-func nested(deep int, block bool) []api.Stmt {
-	l := []api.Stmt{{Word: "a", Block: block}}
-	for range deep - 1 {
-		l = []api.Stmt{{Word: "a", Block: true, Body: l}}
-	}
-	return l
-}
-
 func TestDepths(t *testing.T) {
 	for deep := 1; deep < 20; deep++ {
 		for _, block := range []bool{false, true} {
-			for _, l := range places(nested(deep, block)[0]) {
+			for _, l := range sample.Places(sample.Nested(deep, block)[0]) {
 				checkStmts(t, l)
 			}
 		}
 	}
 	for deep, want := range map[int]api.Errno{maxDepth: api.OK, maxDepth + 1: api.ErrArg} {
-		if e := Check(nested(deep, false)...); e != want {
+		if e := Check(sample.Nested(deep, false)...); e != want {
 			t.Errorf("%d deep: got %d", deep, e)
 		}
-		if e := Check(nested(deep-1, true)...); e != want {
+		if e := Check(sample.Nested(deep-1, true)...); e != want {
 			t.Errorf("%d deep by an empty block: got %d", deep, e)
 		}
 	}
@@ -205,7 +182,7 @@ func TestDepths(t *testing.T) {
 // Of as many levels as the document's bound has.
 func TestVeryDeepStatements(t *testing.T) {
 	const deep = 1 << 16
-	l := nested(deep, false)
+	l := sample.Nested(deep, false)
 	if Count(l...) != deep || Depth(l...) != deep || Check(l...) != api.ErrArg || !Same(l, l) || len(Flat(l...)) != deep {
 		t.Error("not so many, or not so deep")
 	}
@@ -247,12 +224,12 @@ func TestStatementsInThemselves(t *testing.T) {
 func TestSameOfSmallLists(t *testing.T) {
 	var all [][]api.Stmt
 	for many := range 4 {
-		eachList(many, func(l []api.Stmt) { all = append(all, l) })
+		sample.EachList(many, func(l []api.Stmt) { all = append(all, l) })
 	}
 	for _, a := range all {
 		for _, b := range all {
-			if got, want := Same(a, own(b)), shown(a) == shown(b); got != want {
-				t.Fatalf("Same(%.400s, %.400s): got %v", shown(a), shown(b), got)
+			if got, want := Same(a, sample.Own(b)), sample.Shown(a) == sample.Shown(b); got != want {
+				t.Fatalf("Same(%.400s, %.400s): got %v", sample.Shown(a), sample.Shown(b), got)
 			}
 		}
 	}
@@ -267,12 +244,12 @@ func TestSamePartByPart(t *testing.T) {
 		{Word: "a", Nums: []api.Num{num(-1, false)}}, {Word: "a", Nums: []api.Num{num(1, false), num(2, true)}}, {Word: "a", Nums: []api.Num{num(1, false), num(2, false)}},
 		{Word: "a", Nums: []api.Num{num(2, true), num(1, false)}}, {Word: "a", Nums: make([]api.Num, 9)}, {Word: "a", Nums: make([]api.Num, 10)},
 	} {
-		all = append(all, places(x)...)
+		all = append(all, sample.Places(x)...)
 	}
 	for _, a := range all {
 		for _, b := range all {
-			if got, want := Same(a, own(b)), shown(a) == shown(b); got != want {
-				t.Fatalf("Same(%.400s, %.400s): got %v", shown(a), shown(b), got)
+			if got, want := Same(a, sample.Own(b)), sample.Shown(a) == sample.Shown(b); got != want {
+				t.Fatalf("Same(%.400s, %.400s): got %v", sample.Shown(a), sample.Shown(b), got)
 			}
 		}
 	}
@@ -285,24 +262,24 @@ func TestSamePartByPart(t *testing.T) {
 // What is handed in stays as it was, and what Flat tells is the caller's own.
 func TestFlatIsNew(t *testing.T) {
 	for i := range uint64(200) {
-		l := drawnStmts(int(i%30), 1+int(i%6), i)
-		was := own(l)
+		l := sample.Stmts(int(i%30), 1+int(i%6), i)
+		was := sample.Own(l)
 		flat := Flat(l...)
-		want := own(flat)
-		spoil(Flat(l...))
-		if shown(flat) != shown(want) || shown(l) != shown(was) {
-			t.Fatalf("%.400s became %.400s", shown(was), shown(l))
+		want := sample.Own(flat)
+		sample.Spoil(Flat(l...))
+		if sample.Shown(flat) != sample.Shown(want) || sample.Shown(l) != sample.Shown(was) {
+			t.Fatalf("%.400s became %.400s", sample.Shown(was), sample.Shown(l))
 		}
 		at := 0
-		visit(l, 1, func(x api.Stmt, deep int) {
+		sample.Visit(l, 1, func(x api.Stmt, deep int) {
 			if isPieceOf(flat[at].Word, x.Word) {
 				t.Fatalf("%.99q stands in what was handed in", x.Word)
 			}
 			at++
 		})
-		spoil(l)
-		if shown(flat) != shown(want) {
-			t.Fatalf("%.400s became %.400s", shown(want), shown(flat))
+		sample.Spoil(l)
+		if sample.Shown(flat) != sample.Shown(want) {
+			t.Fatalf("%.400s became %.400s", sample.Shown(want), sample.Shown(flat))
 		}
 	}
 }
@@ -310,12 +287,12 @@ func TestFlatIsNew(t *testing.T) {
 func TestNothingHandedInIsChanged(t *testing.T) {
 	for i := range uint64(200) {
 		// Behind what is handed in there is room, in which something else stands.
-		l := drawnStmts(2+int(i%30), 1+int(i%6), i)
-		was := own(l)
+		l := sample.Stmts(2+int(i%30), 1+int(i%6), i)
+		was := sample.Own(l)
 		part := l[:len(l)/2]
 		_, _, _, _, _ = Check(part...), Count(part...), Depth(part...), Same(part, l), Flat(part...)
-		if shown(l) != shown(was) {
-			t.Fatalf("%.400s became %.400s", shown(was), shown(l))
+		if sample.Shown(l) != sample.Shown(was) {
+			t.Fatalf("%.400s became %.400s", sample.Shown(was), sample.Shown(l))
 		}
 	}
 }
