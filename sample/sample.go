@@ -1,4 +1,4 @@
-// Package sample has statements and campaigns' texts for tests, the same ones each time.
+// Package sample has statements, campaigns and campaigns' texts for tests, the same ones each time.
 package sample
 
 import (
