@@ -5,7 +5,6 @@ import (
 	"testing"
 
 	"pallet/api"
-	"pallet/drawn"
 	"pallet/parse"
 	"pallet/sample"
 )
@@ -84,24 +83,13 @@ func TestInjectionsPlayNoPart(t *testing.T) {
 	}
 }
 
-// mix puts statements, and those in their blocks, into another order.
-func mix(l []api.Stmt, from uint64) {
-	for i, n := range drawn.Numbers(len(l), from) {
-		j := int(n>>8) % (i + 1)
-		l[i], l[j] = l[j], l[i]
-	}
-	for i := range l {
-		mix(l[i].Body, from+uint64(i))
-	}
-}
-
 func TestOrderPlaysNoPart(t *testing.T) {
 	met := map[string]int{}
 	for i := range uint64(300) {
 		l := sample.Own(sample.Campaign(i))
 		want, _, _ := Conf(l...)
 		for j := range uint64(10) {
-			mix(l, i+1000*j)
+			sample.Mix(l, i+1000*j)
 			if c, at, e := Conf(l...); !Same(c, want) || shown(c) != shown(want) || at != 0 || e != okE {
 				t.Fatalf("%.900s: got %v, %d, %d, want %v", sample.Shown(l), c, at, e, want)
 			}
@@ -126,7 +114,7 @@ func TestOrderOfWrongOnes(t *testing.T) {
 			l[0] = x
 			_, want := Check(l...)
 			mixed := sample.Own(l)
-			mix(mixed, i)
+			sample.Mix(mixed, i)
 			if _, e := Check(mixed...); (e == okE) != (want == okE) {
 				t.Fatalf("%.900s: got %d, want %d", sample.Shown(mixed), e, want)
 			}

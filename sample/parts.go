@@ -6,6 +6,7 @@ import (
 	"strings"
 
 	"pallet/api"
+	"pallet/drawn"
 )
 
 // Visit hands on each statement, ahead of those in its block, and how deep it is.
@@ -79,6 +80,17 @@ func Own(l []api.Stmt) []api.Stmt {
 		l[i].Nums, l[i].Body = slices.Clone(l[i].Nums), Own(l[i].Body)
 	}
 	return l
+}
+
+// Mix puts statements, and those in their blocks, into another order; from tells which one.
+func Mix(l []api.Stmt, from uint64) {
+	for i, n := range drawn.Numbers(len(l), from) {
+		j := int(n>>8) % (i + 1)
+		l[i], l[j] = l[j], l[i]
+	}
+	for i := range l {
+		Mix(l[i].Body, from+uint64(i))
+	}
 }
 
 // Spoil writes into all that statements have, and into the room behind it.

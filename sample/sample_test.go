@@ -1,6 +1,8 @@
 package sample
 
 import (
+	"slices"
+	"strconv"
 	"strings"
 	"testing"
 
@@ -149,5 +151,33 @@ func TestOwnAndSpoil(t *testing.T) {
 				t.Fatalf("%d is left", n.N)
 			}
 		}
+	}
+}
+
+// What is mixed stands in another order, mostly, and has the same parts.
+func TestMix(t *testing.T) {
+	parts := func(l []api.Stmt) []string {
+		var all []string
+		Visit(l, 1, func(x api.Stmt, deep int) {
+			all = append(all, strconv.Itoa(deep)+x.Word+strconv.Itoa(len(x.Nums))+strconv.Itoa(len(x.Body)))
+		})
+		slices.Sort(all)
+		return all
+	}
+	met := map[string]int{}
+	for i := range uint64(500) {
+		l := Own(Campaign(7))
+		Mix(l, i)
+		if !slices.Equal(parts(l), parts(Campaign(7))) {
+			t.Fatalf("%d: %s is left", i, Shown(l))
+		}
+		again := Own(Campaign(7))
+		if Mix(again, i); Shown(again) != Shown(l) {
+			t.Fatalf("%d: it is another one the second time", i)
+		}
+		met[Shown(l)]++
+	}
+	if len(met) < 490 {
+		t.Errorf("there are %d orders", len(met))
 	}
 }
